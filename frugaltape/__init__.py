@@ -1,0 +1,1 @@
+"""A language whose machine runs both ways and records only what it must."""
