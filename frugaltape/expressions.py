@@ -1,6 +1,6 @@
 """Names and expressions: which objects are some."""
 
-from frugaltape.integers import common_divisor, is_short
+from frugaltape.integers import common_divisor, is_integer, is_short
 
 WORDS = (
     "given", "var", "proc", "main", "end", "set", "swap", "print", "if", "else", "while", "repeat",
@@ -26,11 +26,11 @@ def are_names(candidate):
 
 
 def is_term(candidate, names):
-    """Tell whether any object is a term over the names."""
+    """Tell whether any object is a term over the names, with a factor of any size."""
     if not isinstance(candidate, tuple) or len(candidate) != 2:
         return False
     factor, name = candidate
-    return is_short(factor) and factor != 0 and name in names
+    return is_integer(factor) and factor != 0 and name in names
 
 
 def are_terms(candidate, names):
@@ -41,14 +41,25 @@ def are_terms(candidate, names):
     return written == sorted(set(written))
 
 
-def is_sum(candidate, names):
-    """Tell whether any object is a sum over the names."""
+def sum_numbers(value):
+    """Return the list of all numbers in a sum."""
+    _, constant, terms, divisor = value
+    return [constant, divisor] + [factor for factor, _ in terms]
+
+
+def is_long_sum(candidate, names):
+    """Tell whether any object is a sum over the names, with numbers of any size."""
     if not isinstance(candidate, tuple) or len(candidate) != 4 or candidate[0] != "sum":
         return False
     _, constant, terms, divisor = candidate
-    if not is_short(constant) or not are_terms(terms, names) or not is_short(divisor) or divisor < 1:
+    if not is_integer(constant) or not are_terms(terms, names) or not is_integer(divisor) or divisor < 1:
         return False
-    return common_divisor([constant, divisor] + [factor for factor, _ in terms]) == 1
+    return common_divisor(sum_numbers(candidate)) == 1
+
+
+def is_sum(candidate, names):
+    """Tell whether any object is a sum over the names, as programs may contain it."""
+    return is_long_sum(candidate, names) and all([is_short(number) for number in sum_numbers(candidate)])
 
 
 def is_expression(candidate, names):

@@ -17,6 +17,11 @@ def pivot(vector):
     return at
 
 
+def dot(one, other):
+    """Return the sum of the products of the entries at equal positions."""
+    return sum([left * right for left, right in zip(one, other)])
+
+
 def divided(vector):
     """Return the vector divided by the greatest common divisor of its entries."""
     divisor = common_divisor(vector)

@@ -2,6 +2,8 @@
 
 import ast
 import builtins
+import importlib
+import inspect
 import io
 import re
 import tokenize
@@ -201,14 +203,78 @@ class RulesTest(unittest.TestCase):
             self.assertNotIn(called, ("set", "frozenset"), place)
 
 
-class InterfaceTest(unittest.TestCase):
-    def test_everything_is_defined_in_its_file(self):
-        from frugaltape import programs, spaces, texts
+    def test_attributes(self):
+        barred = set("items keys values pop update append clear extend insert remove reverse setdefault sort args encode "
+                     "decode hex fromhex format real imag numerator denominator".split())
+        stored, methods, properties = {}, {}, set()
+        for place, node in self.nodes(ast.ClassDef):
+            for row in node.body:
+                if isinstance(row, ast.FunctionDef):
+                    decorated = [getattr(decorator, "id", "") for decorator in row.decorator_list]
+                    methods.setdefault(row.name, []).append(place)
+                    properties.update([row.name] if "property" in decorated else [])
+        for place, node in self.nodes(ast.Attribute):
+            if isinstance(node.ctx, ast.Store):
+                stored.setdefault(node.attr, []).append(place)
+        self.assertFalse(barred & set(stored))
+        self.assertFalse(set(stored) & set(methods), "a name is both a method or a property and an attribute")
+        for name in properties:
+            self.assertEqual(len(methods[name]), 1, name)
 
-        self.assertEqual(spaces.MAX_WIDTH, 64)
-        listed = ((spaces, "Space"), (programs, "Program"), (texts, "format_program"), (texts, "parse_program"))
-        for module, name in listed:
-            self.assertEqual(getattr(module, name).__module__, module.__name__)
+    def test_generators(self):
+        named = [node.name for _, node in self.nodes(ast.FunctionDef)]
+        for place, node in self.nodes(ast.FunctionDef):
+            if any(isinstance(row, (ast.Yield, ast.YieldFrom)) for row in ast.walk(node)):
+                self.assertEqual(named.count(node.name), 1, place)
+                self.assertFalse(any(isinstance(row, (ast.Try, ast.With)) for row in ast.walk(node)), place)
+        for place, node in self.nodes(ast.Call):
+            self.assertFalse(isinstance(node.func, ast.Name) and node.func.id == "reversed", place)
+
+    def test_iterated_dicts_are_copied(self):
+        for place, node in self.nodes(ast.Assign):
+            called = isinstance(node.value, ast.Call) and node.value.func
+            if isinstance(called, ast.Name):
+                self.assertNotIn(called.id, ("zip", "enumerate", "map", "filter"), place)
+
+
+class InterfaceTest(unittest.TestCase):
+    """The names, the arguments and the defaults of the interface, as far as it has landed."""
+
+    MODULES = {
+        "spaces": {"Space": ["width", "vectors=()"]},
+        "programs": {"Program": ["given", "variables", "procedures", "main"]},
+        "texts": {"format_program": ["program"], "parse_program": ["text"]},
+        "running": {"execute": ["program", "values", "inputs", "limit=10000"]},
+        "paths": {"free_run": ["program", "start", "choices", "steps"]},
+        "analysis": {"Analysis": ["program"]},
+        "quiet": {"is_quiet": ["program", "address"], "after_rounds": ["program", "address", "values", "rounds"]},
+    }
+    METHODS = {
+        "Space": {"is_within": ["other"], "full": ["width"], "width": None, "basis": None},
+        "Program": {"entry": ["name"], "given": None, "variables": None, "procedures": None, "main": None, "names": None,
+                    "code": None},
+        "Analysis": {"space": ["address"], "open_space": ["address"], "after": ["address"], "ways": ["address"],
+                     "equations": ["address"], "fits": ["address", "values"], "decision": ["address"], "recording": None},
+    }
+
+    def parameters(self, function):
+        """The parameters of a function, but for `self`."""
+        found = [str(parameter) for parameter in inspect.signature(function).parameters.values()]
+        return [name for name in found if name not in ("self", "cls")]
+
+    def test_everything_is_defined_in_its_file(self):
+        self.assertEqual(importlib.import_module("frugaltape.spaces").MAX_WIDTH, 64)
+        for module, names in self.MODULES.items():
+            for name, parameters in names.items():
+                found = getattr(importlib.import_module(f"frugaltape.{module}"), name)
+                self.assertEqual(found.__module__, f"frugaltape.{module}")
+                self.assertEqual(self.parameters(found), parameters, name)
+                for method, expected in self.METHODS.get(name, {}).items():
+                    own = vars(found)[method]
+                    if expected is None:
+                        self.assertIsInstance(own, property)
+                    else:
+                        self.assertEqual(self.parameters(getattr(found, method)), expected, method)
 
 
 if __name__ == "__main__":
