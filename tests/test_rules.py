@@ -221,6 +221,16 @@ class RulesTest(unittest.TestCase):
         for name in properties:
             self.assertEqual(len(methods[name]), 1, name)
 
+    def test_names_of_imports_and_classes_mean_nothing_else(self):
+        for name, tree in self.trees.items():
+            taken = {alias.name for node in tree.body if isinstance(node, ast.ImportFrom) for alias in node.names}
+            taken.update(node.name for node in tree.body if isinstance(node, ast.ClassDef))
+            for node in ast.walk(tree):
+                if isinstance(node, ast.arg):
+                    self.assertNotIn(node.arg, taken, name)
+                elif isinstance(node, ast.Name) and not isinstance(node.ctx, ast.Load):
+                    self.assertNotIn(node.id, taken, name)
+
     def test_generators(self):
         named = [node.name for _, node in self.nodes(ast.FunctionDef)]
         for place, node in self.nodes(ast.FunctionDef):
@@ -248,6 +258,12 @@ class InterfaceTest(unittest.TestCase):
         "paths": {"free_run": ["program", "start", "choices", "steps"]},
         "analysis": {"Analysis": ["program"]},
         "quiet": {"is_quiet": ["program", "address"], "after_rounds": ["program", "address", "values", "rounds"]},
+        "machine": {"Machine": ["program", "values", "inputs=()"]},
+        "papers": {"paper": ["program"], "run_paper": ["machine"], "is_paper": ["program", "candidate"],
+                   "is_run_paper": ["program", "candidate"], "row_run": ["program", "candidate", "row", "limit=2000"]},
+        "reversing": {"reversed_program": ["program"], "reversed_inputs": ["machine"]},
+        "questions": {"last_write": ["machine", "name"], "writes": ["machine", "name", "limit=10000"],
+                      "last_true": ["machine", "expression", "limit=10000"], "outputs_at": ["machine", "step"]},
     }
     METHODS = {
         "Space": {"is_within": ["other"], "full": ["width"], "width": None, "basis": None},
@@ -255,6 +271,9 @@ class InterfaceTest(unittest.TestCase):
                     "code": None},
         "Analysis": {"space": ["address"], "open_space": ["address"], "after": ["address"], "ways": ["address"],
                      "equations": ["address"], "fits": ["address", "values"], "decision": ["address"], "recording": None},
+        "Machine": {"forward": ["count=1"], "back": ["count=1"], "go": ["step"], "finish": ["limit=10000"],
+                    "edit": ["name", "value"], "copy": [], **dict.fromkeys(
+                        "program here now state stack tape inputs read_count outputs is_done full_length edits".split())},
     }
 
     def parameters(self, function):
