@@ -29,11 +29,11 @@ class Combiner:
         basis = spanned_basis([(*vector, *mark) for vector, mark in zip(vectors, marks)])
         self._pivots = [pivot(row) for row in basis]
         self._multiple = 1
-        for row in basis:
-            self._multiple = lcm(self._multiple, row[pivot(row)])
-        scales = [self._multiple // row[pivot(row)] for row in basis]
-        rows = [[scale * entry for entry in row[width:]] for row, scale in zip(basis, scales)]
-        self._columns = [[row[at] for row in rows] for at in range(len(vectors))]
+        for at, row in zip(self._pivots, basis):
+            self._multiple = lcm(self._multiple, row[at])
+        scales = [self._multiple // row[at] for at, row in zip(self._pivots, basis)]
+        scaled = [[scale * entry for entry in row[width:]] for scale, row in zip(scales, basis)]
+        self._columns = [[line[place] for line in scaled] for place in range(len(vectors))]
 
     def factors(self, vector):
         """Return a multiple of a vector of the space, and the list of the factors of which it is the sum."""

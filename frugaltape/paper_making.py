@@ -25,10 +25,10 @@ class Parts:
 def made_moves(rows):
     """Return the moves of a paper with these rows."""
     parts = Parts(rows)
-    moves = []
+    made = []
     for group, target, result in rows.cases():
-        moves.append(parts.move(group, target, result))
-    return tuple(moves)
+        made.append(parts.move(group, target, result))
+    return tuple(made)
 
 
 def vanishing_sum(pairs):

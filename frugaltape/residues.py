@@ -5,7 +5,7 @@ reduced basis at the end. So the basis is first guessed from its residues by a p
 shown to be right: the guess has no more vectors than the space, and each given vector is in its space.
 """
 
-from math import isqrt, lcm
+from math import isqrt
 
 from frugaltape.linear import divided, is_spanned, reduced_basis
 
@@ -49,35 +49,38 @@ def residue_basis(vectors, prime):
     return sorted(basis)
 
 
-def fraction_of(residue, prime):
-    """Return the fraction of short numbers that has this residue, or None if there is none."""
-    bound = isqrt(prime // 2)
+def short_factor(residue, prime, bound):
+    """Return a positive factor, as short as can be, that makes a short number of the residue, or its negative."""
     one, other = prime, residue
     before, factor = 0, 1
     while other > bound:
         times = one // other
         one, other = other, one - times * other
         before, factor = factor, before - times * factor
-    if abs(factor) > bound:
-        return None
-    return (other, factor) if factor > 0 else (-other, -factor)
+    return abs(factor)
 
 
-def whole_vector(row, prime):
-    """Return the reduced vector of short numbers of which the residues are a multiple, or None."""
-    fractions = [fraction_of(entry, prime) for entry in row]
-    if None in fractions:
-        return None
+def whole_vector(row, prime, bound):
+    """Return the reduced vector of numbers up to a bound of which the residues are a multiple, or None."""
     scale = 1
-    for _, divisor in fractions:
-        scale = lcm(scale, divisor)
-    return divided([entry * (scale // divisor) for entry, divisor in fractions])
+    for entry in row:
+        scale = scale * short_factor(entry * scale % prime, prime, bound)
+        if scale > bound:
+            return None
+    whole = [entry * scale % prime for entry in row]
+    return divided([entry if 2 * entry < prime else entry - prime for entry in whole])
 
 
 def guessed_basis(vectors, prime):
     """Return the reduced basis that the residues suggest, or None if its numbers would not be short."""
-    basis = tuple([whole_vector(row, prime) for _, row in residue_basis(vectors, prime)])
-    return None if None in basis else basis
+    bound = isqrt(prime // 2)
+    basis = []
+    for _, row in residue_basis(vectors, prime):
+        vector = whole_vector(row, prime, bound)
+        if vector is None:
+            return None
+        basis.append(vector)
+    return tuple(basis)
 
 
 def spanned_basis(vectors):
