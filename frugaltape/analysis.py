@@ -55,9 +55,8 @@ class Analysis:
         check_address(address, self._moves.instructions)
         if address <= self._main:
             raise InvalidAddress(address)
-        matrices = self._matrices.at(address)
-        # The basis is found before, since that of long numbers takes care.
-        return Space(self._moves.size * self._moves.size, spanned_basis(matrices))
+        # A space that is made of a reduced basis has no long vectors to clear by each other.
+        return Space(self._moves.size * self._moves.size, spanned_basis(self._matrices.at(address)))
 
     def equations(self, address):
         """Return the basis of all equations that hold in all states before an instruction."""
