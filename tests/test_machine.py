@@ -437,6 +437,14 @@ class EqualityTest(unittest.TestCase):
         self.assertNotEqual(one, other)
         self.assertNotEqual(one.tape, other.tape)
 
+    def test_tapes_that_differ(self):
+        one = machine_of("set a = 1", values={"a": 5})
+        other = machine_of("set a = 1", values={"a": 6})
+        one.finish()
+        other.finish()
+        self.assertEqual((one.state, one.tape, other.tape), (other.state, (5,), (6,)))
+        self.assertNotEqual(one, other)
+
     def test_a_machine_is_equal_to_nothing_else(self):
         machine = Machine(COUNTDOWN, {"a": 2}, [7, 8])
         for other in (None, 0, COUNTDOWN, (), facts(machine), {"a": 2}, "step 0"):

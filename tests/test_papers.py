@@ -305,6 +305,38 @@ class WrongPaperTest(unittest.TestCase):
             exchanged[at], exchanged[other] = exchanged[other], exchanged[at]
             self.compare(WIDE, changed(made, way, tuple(exchanged)))
 
+    def test_multiples_are_not_0(self):
+        for at, (_, parts) in enumerate(MOVES):
+            for other in ((0, ()), (0, ((0, parts[0][1]),)), (0, ((5, parts[0][1]), (-5, parts[0][1])))):
+                self.refuse(EXAMPLE, changed(HAND, (2, at), other))
+
+    def test_sums_that_are_right_for_one_choice_only(self):
+        # The second step sets a to the choice; these are (x - 1) / 2 only where it is 1, or 0.
+        for value in (("sum", -3, ((2, "a"), (1, "x")), 2), ("sum", -1, ((2, "a"), (1, "x")), 2)):
+            self.refuse(EXAMPLE, changed(HAND, (3, 1), ("given", value)))
+
+    def test_witnesses_of_nothing(self):
+        program = parse_program(text_of("set x = read", "while x", "end", "repeat read", "  set x = 1", "end",
+                                        head="given a x"))
+        made = paper(program)
+        for address in (0, 5, 6):
+            (_, number, choice), *_ = made[3][address][1]
+            for wrong in ((), ((0, number, choice),), ((1, number, choice), (-1, number, choice))):
+                self.refuse(program, changed(made, (3, address), ("record", wrong)))
+        (zero, *_), (one, *_) = made[3][1][1]
+        for wrong in (((), ()), (((0, zero[1]),), ((0, one[1]),)), (((1, zero[1]), (-1, zero[1])), ())):
+            decision = ("record", wrong)
+            self.refuse(program, changed(changed(made, (3, 1), decision), (3, 3), decision))
+
+    def test_a_turn_destroys_only_at_the_end_of_its_loop(self):
+        program = parse_program(text_of("repeat read", "end", head="var x"))
+        made = paper(program)
+        word, witness = made[3][1]
+        self.assertEqual((word, {choice for _, _, choice in witness}), ("record", {0}))
+        for choice in (1, 2, None, False):
+            other = tuple((factor, number, choice) for factor, number, _ in witness)
+            self.refuse(program, changed(made, (3, 1), (word, other)))
+
     def test_rows_of_vectors(self):
         wrong = (
             (2, (0, 1, 1), ("step", 6, 0)),
@@ -370,6 +402,11 @@ class WrongPaperTest(unittest.TestCase):
         ):
             self.refuse(program, (changed(matrices, (at,), row), vectors, moves, decisions))
         self.refuse(program, (matrices[1:], vectors, moves, decisions), ((), vectors, moves, decisions))
+        # Nothing else depends on the rows of procedures that do nothing and are not called.
+        idle = parse_program("var x\nproc p\nend\nproc q\nend\nmain\nend")
+        entries, *others = paper(idle)
+        self.assertIs(is_paper(idle, (entries, *others)), True)
+        self.refuse(idle, ((), *others), (entries[:1], *others), (entries[1:], *others), (entries[::-1], *others))
         # The product must be written with the matrices that come before.
         self.refuse(program, (matrices[:3] + (matrices[4], matrices[3]), vectors, moves, decisions))
         later = (4, (2, 1, 0, 1), ("call", 2, 4))
@@ -390,6 +427,24 @@ class WrongPaperTest(unittest.TestCase):
             for address in range(len(decisions)):
                 for other in others:
                     self.compare(program, (matrices, vectors, moves, changed(decisions, (address,), other)))
+
+    def test_no_decision_in_place_of_another_at_joins(self):
+        head = "given a\nvar x\nproc p\n  call p\nend"
+        lines = ["if a", "  set x = 1", "end", "if read", "end", "if a", "  call p", "end", "if a", "else", "  call p", "end",
+                 "if a", "  call p", "else", "  call p", "end", "if a", "end"]
+        program = parse_program(text_of(*lines, head=head))
+        made = paper(program)
+        joins = [(at, other) for at in range(len(program.code)) for other in range(at)
+                 if program.code[at][0] == "go" and program.code[at][:2] == program.code[other][:2]]
+        found = [made[3][at] for at, _ in joins]
+        self.assertEqual([decision[0] for decision in found], ["apart", "record", "only", "only", "never", "never"])
+        others = [("never",), ("only", 0), ("only", 1), *[("apart", ("sum", constant, (), 1)) for constant in (0, 1)], *found]
+        for at, other in joins:
+            for decision in others:
+                candidate = changed(changed(made, (3, at), decision), (3, other), decision)
+                self.compare(program, candidate)
+                if decision[0] != made[3][at][0]:
+                    self.refuse(program, candidate)
 
     def test_joins_whose_two_decisions_differ(self):
         program = parse_program(text_of("if read", "end", head="var x"))
