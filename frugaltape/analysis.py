@@ -9,6 +9,13 @@ from frugaltape.residues import spanned_basis
 from frugaltape.spaces import Space
 
 
+def moved_space(moves, address, space):
+    """Return the space of the states after a `set` or `swap` before which the states are those of a space."""
+    choices = moves.choices(address)
+    results = [moves.result(address, vector, 1, choice) for vector in space.basis for choice in choices]
+    return Space(space.width, [tuple(result) for result in results])
+
+
 class Analysis:
     """All that free runs of a program can reach, and what is to be recorded."""
 
@@ -41,14 +48,10 @@ class Analysis:
     def after(self, address):
         """Return the space of the states after an instruction."""
         before = self.space(address)
-        instruction = self._moves.instructions[address]
-        if instruction[0] == "stop":
+        word = self._moves.instructions[address][0]
+        if word == "stop":
             raise InvalidAddress(address)
-        if instruction[0] not in ("set", "swap"):
-            return before
-        choices = self._moves.choices(address)
-        results = [self._moves.result(address, vector, 1, choice) for vector in before.basis for choice in choices]
-        return Space(before.width, [tuple(result) for result in results])
+        return moved_space(self._moves, address, before) if word in ("set", "swap") else before
 
     def ways(self, address):
         """Return the space of the matrices of free runs from the entry of a procedure to an address of it."""

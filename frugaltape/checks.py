@@ -1,6 +1,8 @@
 """Checks of arguments that several functions share."""
 
-from frugaltape.errors import InvalidAddress, InvalidCount, InvalidInputs, InvalidProgram, InvalidValues
+from frugaltape.errors import (
+    Edited, InvalidAddress, InvalidCount, InvalidInputs, InvalidProgram, InvalidValues,
+)
 from frugaltape.integers import is_integer
 from frugaltape.programs import Program
 
@@ -32,6 +34,11 @@ def first_wrong(candidate):
     return None
 
 
+def are_integers(candidate):
+    """Tell whether any object is a tuple of integers."""
+    return isinstance(candidate, tuple) and first_wrong(candidate) is None
+
+
 def check_inputs(candidate):
     """Raise an error unless the object is a list or tuple of integers."""
     if not isinstance(candidate, (list, tuple)):
@@ -51,3 +58,15 @@ def check_address(candidate, code):
     """Raise an error unless the object is an address of the code."""
     if not is_integer(candidate) or not 0 <= candidate < len(code):
         raise InvalidAddress(candidate)
+
+
+def check_past_step(candidate, machine):
+    """Raise an error unless the object is the number of a step up to the present one of a machine."""
+    if not is_integer(candidate) or not 0 <= candidate <= machine.now:
+        raise InvalidCount(candidate)
+
+
+def check_unedited(machine):
+    """Raise an error if a machine has edits."""
+    if machine.edits:
+        raise Edited(machine.edits[0][0])

@@ -169,3 +169,10 @@ class Machine:
             if dot(equation, [*changed, 1]) != 0:
                 raise Unfitting(equation)
         run.edit(name, value)
+
+
+def given_values(machine):
+    """Return the dict of the given values with which the run of a machine began."""
+    start = machine.copy()
+    start.go(0)
+    return {name: start[name] for name in machine.program.given}

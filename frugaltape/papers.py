@@ -1,10 +1,11 @@
 """Papers that show that decisions are right, and papers that show where runs end."""
 
-from frugaltape.checks import check_count, check_program, first_wrong, is_state
-from frugaltape.errors import Edited, InvalidPaper, NotDone, RunError, StepLimit, UnknownRow
+from frugaltape.checks import are_integers, check_count, check_program, check_unedited, is_state
+from frugaltape.errors import InvalidPaper, NotDone, RunError, StepLimit, UnknownRow
 from frugaltape.exploring import Exploration
 from frugaltape.guides import Guide
 from frugaltape.integers import is_integer
+from frugaltape.machine import given_values
 from frugaltape.moves import Moves
 from frugaltape.paper_checking import are_matrices, are_moves, are_vectors, is_number_below, is_tuple_of
 from frugaltape.paper_decisions import are_decisions
@@ -55,17 +56,8 @@ def run_paper(machine):
     """Return the run paper of a machine that is done and was never edited."""
     if not machine.is_done:
         raise NotDone(machine.now)
-    if machine.edits:
-        raise Edited(machine.edits[0][0])
-    start = machine.copy()
-    start.go(0)
-    values = {name: start[name] for name in machine.program.given}
-    return values, machine.inputs, machine.now, machine.state, machine.tape
-
-
-def are_integers(candidate):
-    """Tell whether any object is a tuple of integers."""
-    return isinstance(candidate, tuple) and first_wrong(candidate) is None
+    check_unedited(machine)
+    return given_values(machine), machine.inputs, machine.now, machine.state, machine.tape
 
 
 def has_form(program, candidate):

@@ -1,11 +1,10 @@
 """Questions about the past of a machine; they are answered by going back on a copy of it."""
 
-from frugaltape.checks import check_count
-from frugaltape.errors import InvalidCount, InvalidExpression, RunError, UnknownName
+from frugaltape.checks import check_count, check_past_step
+from frugaltape.errors import InvalidExpression, RunError, UnknownName
 from frugaltape.evaluating import expression_value
 from frugaltape.expressions import is_expression
 from frugaltape.instructions import expression_names, written_names
-from frugaltape.integers import is_integer
 from frugaltape.moves import Moves
 from frugaltape.quiet import quiet_loops
 
@@ -90,8 +89,7 @@ def last_true(machine, expression, limit=10000):
 
 def outputs_at(machine, step):
     """Return the tuple of the outputs at an earlier step."""
-    if not is_integer(step) or not 0 <= step <= machine.now:
-        raise InvalidCount(step)
+    check_past_step(step, machine)
     past = machine.copy()
     past.go(step)
     return past.outputs

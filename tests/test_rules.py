@@ -248,7 +248,7 @@ class RulesTest(unittest.TestCase):
 
 
 class InterfaceTest(unittest.TestCase):
-    """The names, the arguments and the defaults of the interface, as far as it has landed."""
+    """The names, the arguments and the defaults of the interface."""
 
     MODULES = {
         "spaces": {"Space": ["width", "vectors=()"]},
@@ -264,6 +264,16 @@ class InterfaceTest(unittest.TestCase):
         "reversing": {"reversed_program": ["program"], "reversed_inputs": ["machine"]},
         "questions": {"last_write": ["machine", "name"], "writes": ["machine", "name", "limit=10000"],
                       "last_true": ["machine", "expression", "limit=10000"], "outputs_at": ["machine", "step"]},
+        "debugger": {"Debugger": ["machine"]},
+        "plans": {"cheapest": ["present", "target", "kept", "jump"], "best_steps": ["queries", "count"], "Keeper": ["machine", "jump"]},
+        "editing": {"compared": ["one", "other"], "what_if": ["machine", "step", "name", "value", "limit=10000"]},
+        "journal": {"Journal": ["machine"], "recover": ["program", "values", "inputs", "pieces"]},
+        "rewriting": {"exchanged": ["program", "address"], "sunk": ["program", "address"], "lifted": ["program", "address"],
+                      "counted": ["program", "address"], "thrifty": ["program"], "rewritten": ["program", "steps"],
+                      "saving": ["program", "address"], "paying": ["program"]},
+        "rates": {"edges": ["program"], "rate": ["program"], "rate_paper": ["program"], "is_rate_paper": ["program", "candidate"]},
+        "renaming": {"renamed": ["program", "names"], "format_machine": ["machine"]},
+        "console": {"Console": []},
     }
     METHODS = {
         "Space": {"is_within": ["other"], "full": ["width"], "width": None, "basis": None},
@@ -274,6 +284,12 @@ class InterfaceTest(unittest.TestCase):
         "Machine": {"forward": ["count=1"], "back": ["count=1"], "go": ["step"], "finish": ["limit=10000"],
                     "edit": ["name", "value"], "copy": [], **dict.fromkeys(
                         "program here now state stack tape inputs read_count outputs is_done full_length edits".split())},
+        "Debugger": {"stop_at": ["address"], "forget": ["address"], "watch": ["expression"], "jump": ["step"], "undo": [],
+                     "resume": ["limit=10000"], "reverse": ["limit=10000"], "attempt": ["visitor"], "snapshot": [], "breakpoints": None,
+                     "__len__": []},
+        "Keeper": {"keep": [], "drop": ["step"], "visit": ["step"], "snapshot": [], "kept": None, "spent": None},
+        "Journal": {"advance": ["count=1"], "write": [], "snapshot": []},
+        "Console": {"run": ["line"]},
     }
 
     def parameters(self, function):
