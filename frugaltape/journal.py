@@ -44,7 +44,7 @@ def whole_end(piece, head, number, start):
     if not told or not all([letter in DIGITS for letter in told]):
         return None
     end = int(told, 16)
-    return end if end >= start and piece == piece_text(head, number, start, end) else None
+    return end if piece == piece_text(head, number, start, end) else None
 
 
 class Journal:

@@ -97,13 +97,11 @@ def saving(program, address):
 
 def paying(program):
     """Return the ascending tuple of the addresses where sinking saves something."""
-    check_program(program)
     return tuple(paying_addresses(program, known_spaces(program)))
 
 
 def thrifty(program):
     """Return the program that is reached by sinking at the first paying address until there is none."""
-    check_program(program)
     spaces = known_spaces(program)
     found = paying_addresses(program, spaces)
     while found:

@@ -6,7 +6,7 @@ the `set`. So a program is analysed once, however often something is sunk in it.
 
 from frugaltape.analysis import Analysis, moved_space
 from frugaltape.deciding import joins
-from frugaltape.moves import Moves, is_free
+from frugaltape.moves import Moves
 from frugaltape.programs import MAX_CODE
 
 
@@ -27,21 +27,22 @@ def join_entries(zero, one):
     return int(any([vector[-1] != 0 for vector in (zero & one).basis]))
 
 
-def set_entries(moves, address, before):
-    """Return how many entries the `set` at an address writes where the states before it are those of a space."""
-    return len(before) - len(moved_space(moves, address, before)) + int(is_free(moves.instructions[address][2]))
+def narrowing(moves, address, before):
+    """Return by how much the `set` at an address narrows a space.
+
+    It writes so many entries where the states before it are those of the space, or one more if its expression
+    is free.
+    """
+    return len(before) - len(moved_space(moves, address, before))
 
 
 def savings(moves, spaces, address):
     """Return how many entries are saved on way 0 and on way 1 by sinking the `set` at an address."""
     ways = [spaces[at] for at in joins(moves.instructions)[address]]
     sunk = [moved_space(moves, address, space) for space in ways]
-    before = join_entries(*ways) + set_entries(moves, address, spaces[address])
+    before = join_entries(*ways) + narrowing(moves, address, spaces[address])
     after = join_entries(*sunk)
-    zero, one = [
-        before - set_entries(moves, address, space) - after if len(space) > 0 else 0
-        for space in ways
-    ]
+    zero, one = [before - narrowing(moves, address, space) - after if len(space) > 0 else 0 for space in ways]
     return zero, one
 
 

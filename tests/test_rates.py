@@ -193,6 +193,8 @@ class RatePaperTest(unittest.TestCase):
                 for other in (*range(-1, 2), rng.randrange(size), size, size + 1):
                     candidates += [(told, (*cycle[:at], other, *cycle[at + 1:]), heights), (told, (*cycle[:at], other, *cycle[at:]), heights)]
                 candidates += [(told, cycle[at:] + cycle[:at], heights), (told, cycle[:at], heights), (told, cycle[at:], heights)]
+            twice = tuple(2 * height for height in heights)
+            candidates += [((2 * told[0], 2 * told[1]), cycle, twice), (told, cycle, twice), ((0, 2), cycle, twice)]
             candidates += [(told, cycle[::-1], heights), (told, cycle + cycle, heights)]
             for at in range(size):
                 for more in (-1, 1, -3, 10**40):
@@ -230,6 +232,8 @@ class RatePaperTest(unittest.TestCase):
             self.assertIs(is_rate_paper(quiet, (told, (), (0,) * 4)), expected)
             self.assertIs(is_rate_paper(quiet, (told, (1, 2), (0,) * 4)), expected)
         self.assertIs(is_rate_paper(quiet, ((0, 1), (1,), (0,) * 4)), False)
+        for cycle in ((), (1, 2)):
+            self.assertIs(is_rate_paper(quiet, ((0, 2), cycle, (0,) * 4)), False)
 
     def test_a_rate_that_is_too_great(self):
         # The heights would show it, but no cycle does.
